@@ -2,6 +2,7 @@ package engine_test
 
 import (
 	"math/rand"
+	"slices"
 	"strings"
 	"testing"
 
@@ -264,4 +265,114 @@ func spoil(t *testing.T, d *disk.Disk, n int, chance *rand.Rand) {
 		t.Fatal(e)
 	}
 	d.Write(n, sector)
+}
+
+// P19.6: a chunk that goes on ahead of its first block is known at Mount as any other one, till one of its blocks is let go that are ahead of the first one: who lets go block by block comes to that later.
+func TestLetAheadOfTheFirst(t *testing.T) {
+	g := newGround(t, 200)
+	g.do(create(1, "/f"))
+	g.do(write(1, "/f", 0, uncut(t)))
+	g.collect()
+	d := g.turn(150)
+	for _, at := range []int{-1, 0, 1, 2} {
+		x := &ground{t: t, d: d.Copy()}
+		x.mount()
+		x.reads(1, "/f", uncut(t))
+		var chunk []int
+		for _, n := range x.used() {
+			if b, _ := x.g.Load(n); b.Kind >= api.KindChunk {
+				chunk = append(chunk, n)
+			}
+		}
+		if len(chunk) != 3 || chunk[2] != 150 {
+			t.Fatal(chunk)
+		}
+		x.do(create(1, "/g"))
+		free := x.g.Free()
+		if at >= 0 && !x.g.Let(chunk[at]) {
+			t.Fatal(at)
+		}
+		x.do(write(1, "/g", 0, uncut(t)))
+		if took := free - x.g.Free(); (took > 3) != (at >= 0) {
+			t.Errorf("%d blocks were taken behind %d", took, at)
+		}
+		// What is known now is found again, whatever else is let go.
+		x.do(unlink(1, "/f"))
+		x.checkpoint()
+		x.collect()
+		x.do(create(1, "/h"))
+		free = x.g.Free()
+		x.do(write(1, "/h", 0, uncut(t)))
+		if took := free - x.g.Free(); took > 3 {
+			t.Errorf("%d blocks were taken behind %d", took, at)
+		}
+		x.mount()
+		x.reads(1, "/g", uncut(t))
+		x.reads(1, "/h", uncut(t))
+	}
+}
+
+// P19.6: what begins later in a block that was let go has nothing to do with what went on ahead of it.
+func TestLetFirstOfAll(t *testing.T) {
+	g := newGround(t, 200)
+	g.do(create(1, "/f"))
+	g.do(write(1, "/f", 0, uncut(t)))
+	g.collect()
+	met := 0
+	for first := 70; first < 74; first++ {
+		x := &ground{t: t, d: g.turn(first)}
+		x.mount()
+		x.do(create(1, "/g"))
+		var other int
+		for _, n := range x.used() {
+			if b, _ := x.g.Load(n); b.Kind == api.KindMore {
+				other = n
+			}
+		}
+		x.do(unlink(1, "/f"))
+		x.g.Let(first)
+		x.checkpoint()
+		data := ""
+		for seed := int64(0); !slices.Contains(x.used(), first) && x.g.Free() > 9; seed++ {
+			data = noise(seed, 60)
+			x.do(truncate(1, "/g", 0))
+			x.do(write(1, "/g", 0, data))
+		}
+		if b, e := x.g.Load(first); e != api.OK || b.Kind != api.KindChunk {
+			continue
+		}
+		met++
+		x.g.Let(other)
+		x.do(create(1, "/h"))
+		free := x.g.Free()
+		x.do(write(1, "/h", 0, data))
+		if took := free - x.g.Free(); took > 1 {
+			t.Errorf("%d blocks were taken", took)
+		}
+	}
+	if met == 0 {
+		t.Error("no chunk begins there")
+	}
+}
+
+// turn is a copy of a ground's disk, where the first block of its only chunk stands behind the others.
+func (g *ground) turn(first int) *disk.Disk {
+	g.t.Helper()
+	g.checkpoint()
+	var chunk int
+	for _, n := range g.used() {
+		if b, _ := g.g.Load(n); b.Kind == api.KindChunk {
+			chunk = n
+		}
+	}
+	b, _ := g.g.Load(chunk)
+	sector, e := block.Put(first, b)
+	if e != api.OK {
+		g.t.Fatal(e)
+	}
+	val := string([]byte{byte(first >> 8), byte(first), b.Body[1], b.Body[0]})
+	x := g.under(api.Entry{Key: "x\x00\x00\x01\x00\x00", Val: val})
+	x.d.Write(first, sector)
+	x.d.Flush()
+	return x.d
 }

@@ -56,7 +56,7 @@ func over(d *disk.Disk, s api.Super) (*Engine, api.Errno) {
 	if e != api.OK {
 		return nil, e
 	}
-	return &Engine{disk: d, blocks: m, cache: c, tree: t, store: store, files: f, now: s}, api.OK
+	return &Engine{disk: d, blocks: m, cache: c, tree: t, store: store, files: f, now: s, ahead: map[int][]int{}}, api.OK
 }
 
 // keep marks the blocks of what is kept as taken, and lets its chunks be known.
@@ -108,6 +108,11 @@ func (g *Engine) keepChunk(c api.Chunk) api.Errno {
 		return e
 	}
 	g.mark(numbers)
+	for _, n := range numbers {
+		if n < c.Block {
+			g.ahead[c.Block] = append(g.ahead[c.Block], n)
+		}
+	}
 	return api.OK
 }
 
